@@ -1,0 +1,1 @@
+"""Echofield: a sound sent among walls, and what is heard when."""
