@@ -1,4 +1,4 @@
-"""Those rules of LANGUAGE.md that can be seen in one file at a time."""
+"""Some rules of LANGUAGE.md, those that are plainly seen in one file at a time; not all of them."""
 
 import ast
 import builtins
