@@ -9,6 +9,13 @@ def common_divisor(one, other):
     return one
 
 
+def common_bottom(fractions):
+    bottom = 1
+    for fraction in fractions:
+        bottom = bottom // common_divisor(bottom, fraction[1]) * fraction[1]
+    return bottom
+
+
 def lowest(top, bottom):
     # A quotient by a fraction below nought comes here with its sign below.
     if bottom < 0:

@@ -1,28 +1,11 @@
 import unittest
 
-from echofield.errors import BadText, EchoError, NoField, NoMoment, NoRecord, TooMany
+from echofield.errors import NoField, TooMany
 from echofield.fields import Field, joined, turned
-
-HALF = (1, 2)
-THIRD = (1, 3)
-NOUGHT = (0, 1)
-ONE = (1, 1)
-TWELVE_FIGURES = 10 ** 12 - 1
-EIGHT = [(1, bottom) for bottom in range(2, 10)]
+from helper import EIGHT, HALF, NOUGHT, ONE, THIRD, TWELVE_FIGURES, Checking
 
 
-class Refusing(unittest.TestCase):
-    def assert_refused(self, kind, call, *handed_in):
-        with self.assertRaises(kind) as caught:
-            call(*handed_in)
-        self.assertIsInstance(caught.exception, EchoError)
-        self.assertIsInstance(caught.exception, ValueError)
-        for other in (NoField, NoMoment, NoRecord, TooMany, BadText):
-            if other is not kind:
-                self.assertNotIsInstance(caught.exception, other)
-
-
-class Making(Refusing):
+class Making(Checking):
     def test_one_to_eight_walls(self):
         for count in range(1, 9):
             with self.subTest(count=count):
@@ -123,7 +106,7 @@ class Turned(unittest.TestCase):
         self.assertEqual(field.walls(), [HALF, THIRD, ONE])
 
 
-class Joined(Refusing):
+class Joined(Checking):
     def test_the_walls_of_the_one_then_of_the_other(self):
         answer = joined(Field([HALF, NOUGHT]), Field([THIRD, ONE, HALF]))
         self.assertIsInstance(answer, Field)

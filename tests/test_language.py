@@ -21,6 +21,12 @@ OWN_NAMES = set(
     "ArithmeticError OverflowError RuntimeError NotImplementedError AttributeError StopIteration".split()
 )
 
+METHODS = set(
+    "append clear copy count endswith extend find get index insert isalnum isalpha isdigit islower isspace isupper "
+    "items join keys ljust lower lstrip partition pop remove replace reverse rfind rjust rpartition rsplit rstrip "
+    "setdefault split splitlines startswith strip update upper values zfill bit_length".split()
+)
+
 WORDS = re.compile(
     r"\b(type|typing|typing_extensions|enum|Enum|IntEnum|StrEnum|Flag|IntFlag|Generic|Protocol|ABC|ABCMeta|namedtuple"
     r"|NamedTuple|TypedDict|TYPE_CHECKING|abstractmethod)\b|dataclass|overload|contextmanager"
@@ -31,6 +37,11 @@ def nodes():
     for source in SOURCES:
         for node in ast.walk(ast.parse(source.read_text(encoding="utf-8"))):
             yield f"{source.name}:{getattr(node, 'lineno', 1)}", node
+
+
+def own_methods():
+    return {inner.name for _, node in nodes() if isinstance(node, ast.ClassDef) for inner in node.body
+            if isinstance(inner, ast.FunctionDef)}
 
 
 class Language(unittest.TestCase):
@@ -83,6 +94,38 @@ class Language(unittest.TestCase):
                 if isinstance(node, ast.Name) and hasattr(builtins, node.id):
                     self.assertIn(node.id, OWN_NAMES)
                     self.assertIsInstance(node.ctx, ast.Load)
+
+    def test_names_are_plain(self):
+        for place, node in nodes():
+            with self.subTest(place):
+                for name in (getattr(node, key, None) for key in ("id", "attr", "arg", "name")):
+                    if isinstance(name, str) and name != "__init__":
+                        self.assertRegex(name, r"^[A-Za-z][A-Za-z0-9_]*$")
+                if isinstance(node, ast.arg):
+                    self.assertFalse(hasattr(builtins, node.arg))
+                    self.assertIsNone(node.annotation)
+
+    def test_methods_are_known_ones(self):
+        known = METHODS | own_methods()
+        for place, node in nodes():
+            with self.subTest(place):
+                if isinstance(node, ast.Call) and isinstance(node.func, ast.Attribute):
+                    self.assertIn(node.func.attr, known)
+
+    def test_no_method_is_a_value_elsewhere(self):
+        stored = {node.attr for _, node in nodes()
+                  if isinstance(node, ast.Attribute) and isinstance(node.ctx, ast.Store)}
+        self.assertEqual(stored & own_methods(), set())
+
+    def test_powers_texts_and_is(self):
+        for place, node in nodes():
+            with self.subTest(place):
+                if isinstance(node, ast.BinOp) and isinstance(node.op, ast.Pow):
+                    self.assertIsInstance(node.right, ast.Constant)
+                if isinstance(node, ast.Constant) and isinstance(node.value, str):
+                    self.assertNotIn("%", node.value)
+                if isinstance(node, ast.Compare) and isinstance(node.ops[0], (ast.Is, ast.IsNot)):
+                    self.assertIn(ast.unparse(node.comparators[0]), ("None", "True", "False"))
 
 
 if __name__ == "__main__":
